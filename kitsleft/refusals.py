@@ -1,0 +1,31 @@
+"""Refuses parameters that are not as they must be."""
+
+from kitsleft.errors import NotUsable
+from kitsleft.kinds import is_number, is_one_of, is_row
+from kitsleft.pieces import pieces_in, sheets_in
+
+
+def refuse_unless(fits, word):
+    """Refuses the parameter called word unless it fits."""
+    if not fits:
+        raise NotUsable(word, -1)
+
+
+def want_pack(shop, pack):
+    """Refuses what is no name of a pack."""
+    refuse_unless(is_one_of(pack, sheets_in(shop)), "pack")
+
+
+def want_article(shop, article):
+    """Refuses what is no name of an article."""
+    refuse_unless(is_one_of(article, pieces_in(shop)), "article")
+
+
+def want_number(number):
+    """Refuses what is no number."""
+    refuse_unless(is_number(number), "number")
+
+
+def want_sales(shop, sales):
+    """Refuses what is no row."""
+    refuse_unless(is_row(shop, sales), "sales")

@@ -90,17 +90,17 @@ def are_pack_heads(things):
 
 def has_fit_sheet(pack, members, choices):
     """Whether the sheet of the pack names only what it may, of these members of its shop."""
-    name, _, apart, sheet = pack
+    # That it does not name itself is left to has_ring.
+    _, _, apart, sheet = pack
     if not all([is_tuple_of(entry, 2) and is_one_of(entry[0], members) for entry in sheet]):
         return False
     if not rise_by_name(sheet) or not all([is_positive(count) for _, count in sheet]):
         return False
-    inner = [entry[0] for entry in sheet]
-    return name not in inner and not (apart and any([other in choices for other in inner]))
+    return not (apart and any([entry[0] in choices for entry in sheet]))
 
 
 def has_ring(packs):
-    """Whether a pack contains itself."""
+    """Whether a pack contains itself, also if just its own sheet names it."""
     sheets = {pack[0]: [name for name, _ in pack[3]] for pack in packs}
     left = list(sheets)
     while left:
@@ -137,7 +137,7 @@ def is_row(shop, thing):
 
 def is_take(thing, count, options):
     """Whether it names so many of the options."""
-    return is_tuple_of(thing, count) and all([isinstance(name, str) and name in options for name in thing])
+    return is_tuple_of(thing, count) and all([is_one_of(name, options) for name in thing])
 
 
 def are_takes(shop, sheet, thing):

@@ -17,3 +17,11 @@ def row_plus(sales, late):
     """The sum of two rows."""
     early, later = dict(sales), dict(late)
     return row_of({name: early.get(name, 0) + later.get(name, 0) for name in [*early, *later]})
+
+
+def row_of_names(names):
+    """The row in which each article has the number of times that it is named."""
+    numbers = {}
+    for name in names:
+        numbers[name] = numbers.get(name, 0) + 1
+    return row_of(numbers)

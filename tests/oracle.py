@@ -151,3 +151,23 @@ def alone(shop, article, sales=()):
     while holds(shop, plus(sales, article, number + 1)):
         number += 1
     return number
+
+
+def hand_gets(shop, there, article, pick):
+    """Whether a hand without foresight [8] gets a piece; there changes on the way. pick chooses one of the packs."""
+    sheets = {pack[0]: dict(pack[3]) for pack in shop[2]}
+    soft = [pack[0] for pack in shop[2] if pack[2]]
+
+    def leads(pack):
+        return article in sheets[pack] or any(inner in soft and leads(inner) for inner in sheets[pack])
+    while there[article] == 0:
+        ways = [pack for pack in soft if there[pack] > 0 and leads(pack)]
+        if not ways:
+            pieces_wanted = [name for name, count in sheets.get(article, {}).items() for _ in range(count)]
+            return article in sheets and all(hand_gets(shop, there, name, pick) for name in pieces_wanted)
+        pack = pick(ways)
+        there[pack] -= 1
+        for name, count in sheets[pack].items():
+            there[name] += count
+    there[article] -= 1
+    return True

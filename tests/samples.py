@@ -60,3 +60,14 @@ def some_shops(many, seed, **limits):
     """So many shops, each time the same ones."""
     rng = random.Random(seed)
     return [some_shop(rng, **limits) for _ in range(many)]
+
+
+def some_rows(shop, many, seed, most=3):
+    """So many rows of the shop, each time the same ones: all numbers up to most, and many of them 0."""
+    rng = random.Random(seed)
+    names = sorted(row[0] for row in shop[0] + shop[2])
+    rows = []
+    for _ in range(many):
+        some = rng.sample(names, rng.randint(0, min(4, len(names))))
+        rows.append(tuple((name, rng.randint(1, most)) for name in sorted(some)))
+    return rows

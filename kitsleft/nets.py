@@ -23,6 +23,14 @@ def net_down(shop, sales):
     return turns, asked, left
 
 
+def net_sets(shop, sales):
+    """The netting of the row, as three sets of pairs: of the turns, of what is asked of each name, of what is left."""
+    turns, asked, left = net_down(shop, sales)
+    inner = [row[0] for row in [*shop[0], *shop[1]]]
+    wanted = [(name, asked[name]) for name in inner]
+    return (tuple(sorted(turns.items())), tuple(sorted(wanted)), tuple(sorted(left.items())))
+
+
 def sets_of(names):
     """All sets of one or more of the ascending names, the smaller ones first, then as tuples."""
     found = []

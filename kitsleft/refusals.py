@@ -1,6 +1,6 @@
-"""Refuses parameters that are not as they must be."""
+"""Refuses parameters and papers that are not as they must be."""
 
-from kitsleft.errors import NotUsable
+from kitsleft.errors import InvalidPaper, NotUsable
 from kitsleft.kinds import is_number, is_one_of, is_row
 from kitsleft.pieces import pieces_in, sheets_in
 
@@ -9,6 +9,12 @@ def refuse_unless(fits, word):
     """Refuses the parameter called word unless it fits."""
     if not fits:
         raise NotUsable(word, -1)
+
+
+def refuse_paper_unless(fits, word, at):
+    """Refuses a paper for the reason word, at this place, unless it fits."""
+    if not fits:
+        raise InvalidPaper(word, at)
 
 
 def want_pack(shop, pack):

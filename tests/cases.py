@@ -28,7 +28,7 @@ class Case(unittest.TestCase):
             for field, wanted in fields.items():
                 self.gives(getattr(raised, field), wanted)
             return
-        self.fail(f'{function.__name__}{args!r} {more!r} returned {result!r}')
+        self.fail(f'{function!r} of {args!r} {more!r} returned {result!r}')
 
     def refuses(self, word, function, *args, **more):
         """The call raises NotUsable of this parameter."""

@@ -171,3 +171,14 @@ def hand_gets(shop, there, article, pick):
             there[name] += count
     there[article] -= 1
     return True
+
+
+def held_rows(shop, names):
+    """All rows of these articles that hold."""
+    most = [range(alone(shop, name) + 1) for name in names]
+    return [sales for sales in (row(zip(names, numbers)) for numbers in product(*most)) if holds(shop, sales)]
+
+
+def at_most(sales, late):
+    """Whether no number of the row is above that of late."""
+    return all(number <= dict(late).get(article, 0) for article, number in sales)

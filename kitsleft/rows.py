@@ -19,15 +19,17 @@ def row_of_numbers(names, numbers):
     return row_of({name: number for name, number in zip(names, numbers)})
 
 
+def longer_by_one(shop, names, numbers):
+    """These numbers of the first names, with each one that the next name can have beside them."""
+    most = most_more(shop, row_of_numbers(names, numbers), names[len(numbers)])
+    return [(*numbers, number) for number in range(most + 1)]
+
+
 def tops_of(shop, names):
     """For all numbers that all names but the last can have: the greatest one that the last has beside them."""
     beginnings = [()]
-    for name in names[:-1]:
-        longer = []
-        for numbers in beginnings:
-            most = most_more(shop, row_of_numbers(names, numbers), name)
-            longer.extend([(*numbers, number) for number in range(most + 1)])
-        beginnings = longer
+    for _ in names[:-1]:
+        beginnings = [longer for numbers in beginnings for longer in longer_by_one(shop, names, numbers)]
     return {numbers: most_more(shop, row_of_numbers(names, numbers), names[-1]) for numbers in beginnings}
 
 

@@ -117,6 +117,14 @@ class LiveShop:
     def go(self, event):
         """Applies the event, and returns its answer."""
         self._calls = self._calls + 1
+        return self._apply(event)
+
+    def replay(self, events):
+        """Applies the events of a log; they count as no operations."""
+        for event in events:
+            self._apply(event)
+
+    def _apply(self, event):
         reason = self.barred(event)
         if reason is not None:
             raise InvalidEvent(event, reason)

@@ -1,6 +1,6 @@
 """The netting of a row, and what it overasks."""
 
-from kitsleft.pieces import options_in, packs_in
+from kitsleft.pieces import names_in, options_in, packs_in
 from kitsleft.rowtools import row_with
 from kitsleft.shopparts import outer_order
 
@@ -8,7 +8,7 @@ from kitsleft.shopparts import outer_order
 def net_down(shop, sales):
     """Three tables: the turns of the packs, outermost first, what is asked of each name, what is left of parts."""
     sold = dict(sales)
-    asked = dict([(row[0], sold.get(row[0], 0)) for rows in shop for row in rows])
+    asked = dict([(name, sold.get(name, 0)) for name in names_in(shop)])
     packs = packs_in(shop)
     turns = {}
     for pack in outer_order(shop):

@@ -27,6 +27,11 @@ def pieces_in(shop):
     return {row[0]: row[1] for row in [*shop[0], *shop[2]]}
 
 
+def names_in(shop):
+    """The names of its parts, its choices and its packs, in this order."""
+    return [row[0] for rows in shop for row in rows]
+
+
 def with_pieces(shop, there):
     """The shop in which so many pieces of each article are there."""
     parts = tuple([(name, there[name]) for name, _ in shop[0]])

@@ -1,7 +1,7 @@
 """What a shop consists of, and how its packs lie within each other."""
 
 from kitsleft.kinds import is_one_of
-from kitsleft.pieces import options_in, packs_in, pieces_in, sheets_in, stocks_in
+from kitsleft.pieces import names_in, options_in, packs_in, pieces_in, sheets_in, stocks_in
 from kitsleft.refusals import refuse_unless, want_article, want_pack
 
 
@@ -65,8 +65,7 @@ def there_of(shop, article):
 
 def namers_of(shop, name):
     """The set of the packs whose sheets name it."""
-    members = [row[0] for rows in shop for row in rows]
-    refuse_unless(is_one_of(name, members), "name")
+    refuse_unless(is_one_of(name, names_in(shop)), "name")
     sheets = sheets_in(shop)
     return tuple([pack for pack in sheets if name in dict(sheets[pack])])
 

@@ -14,6 +14,9 @@ FUNCTIONS = {
     'shoprows': ('number_in(shop, sales, article)', 'row_sum(shop, sales, late)', 'is_at_most(shop, sales, late)'),
     'shoptexts': ('shop_text(shop)', 'row_text(sales)'),
     'shopreadings': ('shop_read(text)', 'row_read(text, *, line=0, field=0)'),
+    'netting': ('netted(shop, sales)',),
+    'holdchecker': ('lets_hold(shop, sales, thing)',),
+    'holdpapers': ('hold_paper(shop, sales)',),
     'holds': ('is_held(shop, sales)', 'overasked(shop, sales)', 'givings(shop, sales)'),
     'deeds': ('is_possible(shop, deed)', 'behind(shop, deeds)', 'serves(shop, deeds, sales)',
               'plan_of(shop, sales, *, order=None)'),
@@ -28,20 +31,25 @@ FUNCTIONS = {
     'flat': ('is_flat(shop)', 'is_soft(shop, pack)', 'flattened(shop)', 'same_flat(shop)', 'flat_row(shop)'),
     'days': ('is_schedule(shop, thing)', 'can_deliver(shop, orders, goods)', 'first_late(shop, orders, goods)',
              'lacking_goods(shop, orders, goods)'),
+    'replaying': ('is_log(thing)', 'replayed(log)'),
     'liveevents': ('is_event(thing)',),
     'eventtexts': ('event_line(event)', 'log_lines(log)'),
     'eventreadings': ('read_event(text)', 'read_log(lines)'),
 }
 CLASSES = {
+    ('planclasses', 'Plan'): (
+        '__init__(self, shop, deeds)', '__getitem__(self, k)', '__call__(self, many)', '__contains__(self, thing)',
+        '__len__(self)', '__iter__(self)', '__eq__(self, other)', '__add__(self, deed)', 'first(self, many)',
+        'then(self, other)'),
+    ('planclasses', 'Serving'): ('__init__(self, shop, sales, *order)',),
     ('handless', 'Hand'): (
         '__init__(self, shop)', 'sell(self, article)', '__iadd__(self, article)', '__call__(self, article)',
-                           'undo(self)',
-        '__len__(self)', '__contains__(self, thing)', '__iter__(self)', '__eq__(self, other)'),
+        'undo(self)', '__len__(self)', '__contains__(self, thing)', '__iter__(self)', '__eq__(self, other)'),
     ('live', 'LiveShop'): (
         '__init__(self, shop)', 'more_of(self, article)', 'shown(self)', 'needed(self)', 'givable(self)',
         'owe(self, article)', 'give(self, article)', 'take_back(self, article)',
-                           'put_hold(self, name, article, number)',
-        'free(self, name)', 'buy(self, name)', 'add_goods(self, part, number)', 'build(self, pack, takes)',
+        'put_hold(self, name, article, number)', 'free(self, name)', 'buy(self, name)',
+        'add_goods(self, part, number)', 'build(self, pack, takes)',
         'take_apart(self, pack)', 'note(self, name)', 'go(self, event)', '__call__(self, event)',
         '__getitem__(self, article)', '__contains__(self, thing)', '__iter__(self)', '__len__(self)',
         '__eq__(self, other)', '__str__(self)', 'tried(self, *events)', 'undo(self)',
@@ -50,6 +58,8 @@ CLASSES = {
     ('desk', 'Desk'): ('say(self, row)', 'tally(self)'),
 }
 PROPERTIES = {
+    ('planclasses', 'Plan'): ('start_now', 'deeds_now', 'shop_now', 'sold_now'),
+    ('planclasses', 'Serving'): ('order_now',),
     ('handless', 'Hand'): ('shop_now', 'served_now', 'refused_now'),
     ('live', 'LiveShop'): ('shop_now', 'owed_now', 'given_now', 'holds_now', 'held_now', 'asked_now'),
 }

@@ -54,6 +54,11 @@ def is_names(thing):
     return isinstance(thing, tuple) and all([is_name(name) for name in thing]) and are_rising(thing)
 
 
+def is_counted_name(thing):
+    """Whether any value is a pair of a name and an integer that is at least 1."""
+    return is_tuple_of(thing, 2) and is_name(thing[0]) and is_positive(thing[1])
+
+
 def is_part(thing):
     """Whether it can stand among the parts of a shop."""
     return is_tuple_of(thing, 2) and is_name(thing[0]) and is_number(thing[1])

@@ -38,7 +38,7 @@ class LiveShop:
     @property
     def given_now(self):
         """The row of what was given."""
-        return self._moments[-1].given
+        return self._moments[-1].handed
 
     @property
     def holds_now(self):
@@ -168,7 +168,7 @@ class LiveShop:
             if reason is not None:
                 raise InvalidEvent(event, reason)
             moment = moment_behind(moment, event)
-        return (moment.shop, asked_at(moment), moment.given)
+        return (moment.shop, asked_at(moment), moment.handed)
 
     def undo(self):
         """Takes back the last event, and returns it."""

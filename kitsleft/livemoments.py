@@ -3,18 +3,18 @@
 from kitsleft.deeds import behind, is_possible
 from kitsleft.liveevents import is_event
 from kitsleft.nets import row_holds
-from kitsleft.pieces import packs_in, pieces_in, stocks_in, with_pieces
+from kitsleft.pieces import packs_in, pieces_in, stocks_in, with_number
 from kitsleft.rowtools import row_plus, row_with
 
 
 class Moment:
     """What a live shop has behind its events; it never changes."""
 
-    def __init__(self, shop, owed, holds, given, events):
+    def __init__(self, shop, owed, holds, handed, events):
         self.shop = shop
         self.owed = owed
         self.holds = holds
-        self.given = given
+        self.handed = handed
         self.events = events
 
 
@@ -48,9 +48,7 @@ def row_more(sales, article, number):
 
 def shop_more(shop, article, number):
     """The shop in which so many pieces of the article more are there, or, below 0, fewer."""
-    there = dict(pieces_in(shop))
-    there[article] = there[article] + number
-    return with_pieces(shop, there)
+    return with_number(shop, article, pieces_in(shop)[article] + number)
 
 
 def shop_behind(shop, event):
@@ -89,10 +87,10 @@ def holds_behind(moment, event):
 def given_behind(moment, event):
     """The row of what was given behind the event."""
     if event[0] == "give":
-        return row_more(moment.given, event[1], 1)
+        return row_more(moment.handed, event[1], 1)
     if event[0] == "back":
-        return row_more(moment.given, event[1], -1)
-    return moment.given
+        return row_more(moment.handed, event[1], -1)
+    return moment.handed
 
 
 def moment_behind(moment, event):
@@ -144,7 +142,7 @@ def wrong_deed(moment, event):
         return "owed"
     if event[0] == "give" and pieces_in(moment.shop)[event[1]] == 0:
         return "there"
-    if event[0] == "back" and event[1] not in dict(moment.given):
+    if event[0] == "back" and event[1] not in dict(moment.handed):
         return "given"
     if event[0] in ("build", "apart") and not is_possible(moment.shop, event):
         return "deed"

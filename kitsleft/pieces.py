@@ -37,3 +37,10 @@ def with_pieces(shop, there):
     parts = tuple([(name, there[name]) for name, _ in shop[0]])
     packs = tuple([(name, there[name], apart, sheet) for name, _, apart, sheet in shop[2]])
     return (parts, shop[1], packs)
+
+
+def with_number(shop, article, number):
+    """The shop in which so many pieces of the article are there."""
+    there = dict(pieces_in(shop))
+    there[article] = number
+    return with_pieces(shop, there)

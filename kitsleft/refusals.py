@@ -2,7 +2,7 @@
 
 from kitsleft.errors import InvalidPaper, NotUsable
 from kitsleft.kinds import is_number, is_one_of, is_row
-from kitsleft.pieces import pieces_in, sheets_in
+from kitsleft.pieces import options_in, pieces_in, sheets_in, stocks_in
 
 
 def refuse_unless(fits, word):
@@ -15,6 +15,16 @@ def refuse_paper_unless(fits, word, at):
     """Refuses a paper for the reason word, at this place, unless it fits."""
     if not fits:
         raise InvalidPaper(word, at)
+
+
+def want_part(shop, part):
+    """Refuses what is no name of a part."""
+    refuse_unless(is_one_of(part, stocks_in(shop)), "part")
+
+
+def want_choice(shop, choice):
+    """Refuses what is no name of a choice."""
+    refuse_unless(is_one_of(choice, options_in(shop)), "choice")
 
 
 def want_pack(shop, pack):

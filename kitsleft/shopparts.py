@@ -2,7 +2,7 @@
 
 from kitsleft.kinds import is_one_of
 from kitsleft.pieces import names_in, options_in, packs_in, pieces_in, sheets_in, stocks_in
-from kitsleft.refusals import refuse_unless, want_article, want_pack
+from kitsleft.refusals import refuse_unless, want_article, want_choice, want_pack, want_part
 
 
 def parts_of(shop):
@@ -27,16 +27,14 @@ def articles_of(shop):
 
 def stock_of(shop, part):
     """The stock of the part."""
-    stocks = stocks_in(shop)
-    refuse_unless(is_one_of(part, stocks), "part")
-    return stocks[part]
+    want_part(shop, part)
+    return stocks_in(shop)[part]
 
 
 def options_of(shop, choice):
     """The options of the choice."""
-    options = options_in(shop)
-    refuse_unless(is_one_of(choice, options), "choice")
-    return options[choice]
+    want_choice(shop, choice)
+    return options_in(shop)[choice]
 
 
 def made_of(shop, pack):

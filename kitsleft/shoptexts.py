@@ -1,6 +1,6 @@
 """Shops and rows as texts."""
 
-from kitsleft.kinds import is_name, is_positive, is_tuple_of
+from kitsleft.kinds import is_counted_name
 from kitsleft.refusals import refuse_unless
 
 
@@ -24,8 +24,3 @@ def row_text(sales):
     """The row, or any pairs of a name and a number, as one word."""
     refuse_unless(isinstance(sales, tuple) and all([is_counted_name(pair) for pair in sales]), "sales")
     return pairs_text(sales) if sales else "-"
-
-
-def is_counted_name(thing):
-    """Whether any value is a pair of a name and an integer that is at least 1."""
-    return is_tuple_of(thing, 2) and is_name(thing[0]) and is_positive(thing[1])

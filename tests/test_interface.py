@@ -11,6 +11,10 @@ FUNCTIONS = {
     'shopparts': ('parts_of(shop)', 'choices_of(shop)', 'packs_of(shop)', 'articles_of(shop)', 'stock_of(shop, part)',
                   'options_of(shop, choice)', 'made_of(shop, pack)', 'can_part(shop, pack)', 'sheet_of(shop, pack)',
                   'there_of(shop, article)', 'namers_of(shop, name)', 'inside_of(shop, pack)', 'outer_order(shop)'),
+    'shopchanges': ('with_stock(shop, part, stock)', 'with_made(shop, pack, made)', 'with_apart(shop, pack, apart)',
+                    'with_options(shop, choice, options)', 'with_sheet(shop, pack, sheet)',
+                    'with_part(shop, part, stock)', 'with_choice(shop, choice, options)',
+                    'with_pack(shop, pack, made, apart, sheet)', 'without(shop, name)', 'renamed(shop, table)'),
     'shoprows': ('number_in(shop, sales, article)', 'row_sum(shop, sales, late)', 'is_at_most(shop, sales, late)'),
     'shoptexts': ('shop_text(shop)', 'row_text(sales)'),
     'shopreadings': ('shop_read(text)', 'row_read(text, *, line=0, field=0)'),
@@ -31,12 +35,23 @@ FUNCTIONS = {
     'flat': ('is_flat(shop)', 'is_soft(shop, pack)', 'flattened(shop)', 'same_flat(shop)', 'flat_row(shop)'),
     'days': ('is_schedule(shop, thing)', 'can_deliver(shop, orders, goods)', 'first_late(shop, orders, goods)',
              'lacking_goods(shop, orders, goods)'),
+    'tellback': ('stocks_behind(sheets, shown)',),
+    'stockpapers': ('stock_paper(sheets, shown)',),
+    'stockchecker': ('lets_stocks(sheets, shown, thing)',),
+    'rules': ('shown_by(shop, rule)', 'parting_article(shop, rule, late)', 'can_be_false(shop, rule)'),
     'replaying': ('is_log(thing)', 'replayed(log)'),
     'liveevents': ('is_event(thing)',),
     'eventtexts': ('event_line(event)', 'log_lines(log)'),
     'eventreadings': ('read_event(text)', 'read_log(lines)'),
 }
 CLASSES = {
+    ('shopclasses', 'Shop'): (
+        '__init__(self, parts, choices, packs)', '__getitem__(self, name)', '__call__(self, article)',
+        '__contains__(self, thing)', '__len__(self)', '__iter__(self)', '__str__(self)', '__eq__(self, other)',
+        '__add__(self, goods)', '__sub__(self, goods)', '__mod__(self, table)', 'stocked(self, article, number)',
+        'offering(self, part, stock)', 'packing(self, pack, made, apart, sheet)', 'dropping(self, name)'),
+    ('shopclasses', 'Loose'): ('__init__(self, parts)',),
+    ('shopclasses', 'Sealed'): ('__init__(self, source)',),
     ('planclasses', 'Plan'): (
         '__init__(self, shop, deeds)', '__getitem__(self, k)', '__call__(self, many)', '__contains__(self, thing)',
         '__len__(self)', '__iter__(self)', '__eq__(self, other)', '__add__(self, deed)', 'first(self, many)',
@@ -55,9 +70,12 @@ CLASSES = {
         '__eq__(self, other)', '__str__(self)', 'tried(self, *events)', 'undo(self)',
         'do_all(self, *events, keep=False)', 'tally(self)', 'barred(self, event)', 'table(self)',
         'shop_then(self, name)', 'asked_then(self, name)', 'log(self)'),
-    ('desk', 'Desk'): ('say(self, row)', 'tally(self)'),
+    ('desk', 'Desk'): ('__init__(self)', 'say(self, row)', 'tally(self)'),
 }
 PROPERTIES = {
+    ('shopclasses', 'Shop'): ('stocks', 'eithers', 'packings', 'form'),
+    ('shopclasses', 'Loose'): ('given',),
+    ('shopclasses', 'Sealed'): ('source',),
     ('planclasses', 'Plan'): ('start_now', 'deeds_now', 'shop_now', 'sold_now'),
     ('planclasses', 'Serving'): ('order_now',),
     ('handless', 'Hand'): ('shop_now', 'served_now', 'refused_now'),
@@ -86,6 +104,18 @@ class Interface(unittest.TestCase):
             for text in wanted:
                 method = text.split('(')[0]
                 self.assertEqual(told(method, vars(one)[method]), text)
+
+    def test_class_and_static_methods(self):
+        from kitsleft.shopclasses import Shop
+        self.assertIsInstance(vars(Shop)['read'], classmethod)
+        self.assertEqual(told('read', Shop.read), 'read(text)')
+        self.assertIsInstance(vars(Shop)['of'], staticmethod)
+        self.assertEqual(told('of', Shop.of), 'of(part, *parts, choices=(), packs=())')
+
+    def test_bases(self):
+        from kitsleft.planclasses import Plan, Serving
+        from kitsleft.shopclasses import Loose, Sealed, Shop
+        self.assertEqual([Serving.__bases__, Loose.__bases__, Sealed.__bases__], [(Plan,), (Shop,), (Shop,)])
 
     def test_properties(self):
         for (module, name), wanted in PROPERTIES.items():

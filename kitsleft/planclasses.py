@@ -46,7 +46,7 @@ class Plan:
     def then(self, other):
         """The plan with the deeds of the other one behind; that one begins where this one ends."""
         refuse_unless(isinstance(other, Plan) and other.start_now == self._behind, "other")
-        return Plan(self._shop, (*self._deeds, *other.deeds_now))
+        return Plan(self._shop, (*self._deeds, *other._deeds))
 
     def _first_deeds(self, many):
         refuse_unless(is_number(many) and many <= len(self._deeds), "many")
